@@ -1,0 +1,1 @@
+"""Lentblocks: blocks lent and given back, never moved."""

@@ -1,0 +1,106 @@
+"""The names, the places and the parameters that the interface lists, and the errors [22]."""
+
+import importlib
+import inspect
+import unittest
+
+from lentblocks import errors
+
+# For each file, its functions as the interface writes them.
+FUNCTIONS = {
+    "chains": """is_chain(thing), ratios(chain), chain_of(rates), size_for(chain, length),
+        place_of(chain, size), is_finer(one, other), common_chain(one, other),
+        all_chains(greatest), how_many_chains(greatest), nth_chain(greatest, number),
+        number_of_chain(chain)""",
+    "stands": """is_block(chain, thing), is_stand(chain, pool, thing), live(stand),
+        sizes_of(stand), last_end(stand), block_at(stand, cell), holes(pool, stand),
+        how_many_places(pool, stand, size), is_place(pool, stand, size, first),
+        nth_place(pool, stand, size, number), greatest_fit(chain, pool, stand),
+        put(pool, stand, first, size), taken(stand, first), free_blocks(chain, pool, stand)""",
+}
+
+# For each error class, the values that it takes and keeps.
+ERRORS = {
+    "AllKnown": (),
+    "BadAnswer": ("answer",),
+    "BadLine": ("number",),
+    "BadText": ("piece",),
+    "Known": ("name",),
+    "NoNumber": ("number",),
+    "NoPlace": ("number",),
+    "NoPool": ("name",),
+    "NoSize": ("size",),
+    "NothingDone": (),
+}
+
+
+def listed(text):
+    """The pairs (name, parameters) of functions as the interface writes them."""
+    pairs = []
+    for part in " ".join(text.split()).split("), "):
+        name, inner = part.rstrip(")").split("(")
+        pairs.append((name, inner.split(", ")))
+    return pairs
+
+
+class Functions(unittest.TestCase):
+    def test_names_and_parameters(self):
+        for file, text in FUNCTIONS.items():
+            module = importlib.import_module("lentblocks." + file)
+            for name, parameters in listed(text):
+                with self.subTest(file=file, name=name):
+                    function = getattr(module, name)
+                    self.assertTrue(inspect.isfunction(function))
+                    self.assertEqual(function.__module__, "lentblocks." + file)
+                    self.assertEqual(function.__name__, name)
+                    told = inspect.signature(function).parameters.values()
+                    self.assertEqual([one.name for one in told], parameters)
+                    for one in told:
+                        self.assertEqual(one.kind, one.POSITIONAL_OR_KEYWORD)
+                        self.assertEqual(one.default, one.empty)
+
+
+class Errors(unittest.TestCase):
+    def test_all_stand_directly_under_block_error(self):
+        self.assertEqual(errors.BlockError.__bases__, (ValueError,))
+        for name in ERRORS:
+            with self.subTest(name=name):
+                one = getattr(errors, name)
+                self.assertEqual(one.__bases__, (errors.BlockError,))
+                self.assertEqual(one.__name__, name)
+                self.assertEqual(one.__module__, "lentblocks.errors")
+
+    def test_there_are_no_others(self):
+        own = [name for name, one in vars(errors).items() if inspect.isclass(one)]
+        self.assertEqual(sorted(own), sorted([*ERRORS, "BlockError"]))
+
+    def test_values_by_place_and_by_name(self):
+        for name, kept in ERRORS.items():
+            one = getattr(errors, name)
+            for value in (3, -1, 0, 10 ** 5000, "pool", None, (1, 2)):
+                values = {word: value for word in kept}
+                with self.subTest(name=name, kind=type(value)):
+                    self.assertEqual(vars(one(*values.values())), values)
+                    self.assertEqual(vars(one(**values)), values)
+
+    def test_wrong_numbers_of_values(self):
+        for name, kept in ERRORS.items():
+            one = getattr(errors, name)
+            with self.subTest(name=name):
+                with self.assertRaises(TypeError):
+                    one(*kept, 1)
+                with self.assertRaises(TypeError):
+                    one(other=1, **{word: 1 for word in kept})
+                if kept:
+                    with self.assertRaises(TypeError):
+                        one()
+
+    def test_caught_as_block_error_and_as_value_error(self):
+        for name, kept in ERRORS.items():
+            for caught in (errors.BlockError, ValueError):
+                with self.assertRaises(caught):
+                    raise getattr(errors, name)(*kept)
+
+
+if __name__ == "__main__":
+    unittest.main()
