@@ -17,6 +17,18 @@ FUNCTIONS = {
         how_many_places(pool, stand, size), is_place(pool, stand, size, first),
         nth_place(pool, stand, size, number), greatest_fit(chain, pool, stand),
         put(pool, stand, first, size), taken(stand, first), free_blocks(chain, pool, stand)""",
+    "rows": """is_row(chain, thing), asks_of(row), out_at(row), height(row), still_out(row),
+        with_ask(chain, row, size), with_back(row, number), all_back(row),
+        stands_by(chain, pool, row, places), is_places(chain, pool, row, thing)""",
+    "first": """first_place(pool, stand, size), first_places(chain, pool, row),
+        first_stands(chain, pool, row), serves_first(chain, pool, row), first_pool(chain, row),
+        ends_first(chain, row)""",
+    "bound": """unit(chain), is_even(chain, budget), lines(chain, budget), least_pool(chain, budget),
+        pool_bounds(chain, budget), factor(chain), budget_for(chain, pool),
+        over_lines(chain, budget, stand), slot_weights(chain, budget, size),
+        is_full_stand(chain, budget, size, thing), full_stand(chain, budget, size)""",
+    "opponents": """opponent(chain, budget, pool, place), met_behind(chain, budget, pool, place),
+        greatest_end(chain, budget, place), is_opponent_row(chain, budget, row, places)""",
 }
 
 # For each error class, the values that it takes and keeps.

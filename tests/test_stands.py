@@ -20,6 +20,7 @@ from lentblocks.stands import (
     sizes_of,
     taken,
 )
+from tests.cells import cells_of, free_by_cells, stands_by_cells
 from tests.helper import Case
 
 CHAIN = (1, 2, 4)
@@ -32,35 +33,6 @@ THINGS = (
     None, True, False, 0, 7, -1, "", "ab", [], [0, 1], (), (0,), (0, 1, 1), ("0", "1"), (0, None),
     (None, 1), (0, True), (False, 1), (True, True), ((0, 1), 1), (0, (1,)), ([0], 1), (0, [1]),
 )
-
-
-def stands_by_cells(chain, pool):
-    """All STANDS, by choosing at each cell a BLOCK that begins there, or none."""
-    found = []
-
-    def go(at, blocks):
-        if at == pool:
-            found.append(blocks)
-            return
-        go(at + 1, blocks)
-        for size in chain:
-            if at % size == 0 and at + size <= pool:
-                go(at + size, (*blocks, (at, size)))
-
-    go(0, ())
-    return found
-
-
-def cells_of(blocks):
-    return {cell for first, size in blocks for cell in range(first, first + size)}
-
-
-def free_by_cells(pool, stand, size):
-    """The first cells of the free slots of this size, cell by cell."""
-    used = cells_of(stand)
-    return [
-        first for first in range(0, pool, size) if not used & set(range(first, first + size))
-    ]
 
 
 class IsBlock(Case):
