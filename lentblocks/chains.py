@@ -90,3 +90,9 @@ def nth_chain(greatest, number):
 def number_of_chain(chain):
     """The number of the CHAIN among those with its greatest size."""
     return all_chains(chain[-1]).index(tuple(chain))
+
+
+def check_sizes(chain, sizes):
+    """Raise NoSize for the first of the sizes that the CHAIN does not have."""
+    for size in sizes:
+        place_of(chain, size)

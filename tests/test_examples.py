@@ -8,7 +8,10 @@ from tests.helper import examples_in, run_examples
 
 FOLDER = pathlib.Path(__file__).parent / "examples"
 PACKAGE = pathlib.Path(__file__).parent.parent / "lentblocks"
-CHAPTERS = ["bound", "chains", "first", "opponents", "rows", "stands"]
+CHAPTERS = [
+    "bound", "chains", "first", "moving", "opponents", "reach", "rounding", "rows", "rules",
+    "stands",
+]
 
 
 def all_names():

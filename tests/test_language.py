@@ -177,6 +177,51 @@ class Statements(unittest.TestCase):
                 for one in node.args:
                     self.assertNotIsInstance(one, ast.GeneratorExp, (file, node.lineno))
 
+    def test_nothing_is_made_one_by_one(self):
+        self.assertEqual(nodes((ast.GeneratorExp, ast.Yield, ast.YieldFrom)), [])
+
+    def test_sets_are_only_measured(self):
+        inner = [
+            one for _, node in nodes(ast.Call) if isinstance(node.func, ast.Name)
+            and node.func.id in ("len", "sorted") for one in node.args
+        ]
+        for file, node in nodes((ast.Set, ast.SetComp)):
+            self.assertIn(node, inner, (file, node.lineno))
+
+    def test_the_underscore_is_never_read(self):
+        for file, node in nodes(ast.Name):
+            if node.id == "_":
+                self.assertIsInstance(node.ctx, ast.Store, (file, node.lineno))
+
+    def test_what_is_imported_is_used(self):
+        for file, tree in TREES.items():
+            read = {node.id for node in ast.walk(tree) if isinstance(node, ast.Name)}
+            for node in imports_of(file):
+                for one in node.names:
+                    self.assertIn(one.name, read, file)
+
+    def test_no_list_grows_in_a_loop_over_it(self):
+        changing = ("append", "extend", "insert", "pop", "remove", "clear", "update")
+        for file, loop in nodes(ast.For):
+            over = {node.id for node in ast.walk(loop.iter) if isinstance(node, ast.Name)}
+            for row in loop.body:
+                for node in ast.walk(row):
+                    if isinstance(node, ast.Attribute) and node.attr in changing:
+                        self.assertNotIn(ast.unparse(node.value), over, (file, node.lineno))
+                    if isinstance(node, ast.Subscript) and not isinstance(node.ctx, ast.Load):
+                        self.assertNotIn(ast.unparse(node.value), over, (file, node.lineno))
+
+    def test_library_names_are_only_called(self):
+        for file, tree in TREES.items():
+            names = {
+                one.name for node in imports_of(file) if node.module in LIBRARY
+                for one in node.names
+            }
+            called = [node.func for node in ast.walk(tree) if isinstance(node, ast.Call)]
+            for node in ast.walk(tree):
+                if isinstance(node, ast.Name) and node.id in names:
+                    self.assertIn(node, called, file)
+
     def test_names(self):
         for file, tree in TREES.items():
             taken = {one.name for node in imports_of(file) for one in node.names}

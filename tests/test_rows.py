@@ -65,7 +65,7 @@ class IsRow(Case):
             self.tells(thing == "ask", is_row, CHAIN, (("ask", 1), (thing, 1)))
         for thing in (
             [("ask", 1)], (["ask", 1],), ("ask", 1), (("ask", 1, 0),), (("ask",),), (("Ask", 1),),
-            (("give", 1),), ((1, "ask"),), (("ask", 1), "back"), ((("ask", 1),),), (("", 1),),
+            (("give", 1),), (("ask", 1), ("give", 0)), (("ask", 1), ("", 0)), ((1, "ask"),), (("ask", 1), "back"), ((("ask", 1),),), (("", 1),),
             (("ask", 1), ("back", 0, 0)), (("ask", 1), ["back", 0]), (("ask 1",),), ("ab",),
         ):
             self.tells(False, is_row, CHAIN, thing)
