@@ -62,6 +62,48 @@ class Case(unittest.TestCase):
         self.assertTrue(alike(expected, found), (function.__name__, values, expected, found))
 
 
+def told(value):
+    """That a step of walks tells this value."""
+    return ("told", value)
+
+
+def raised(error, **attributes):
+    """That a step of walks raises this error."""
+    return ("raised", error.__name__, tuple(sorted(attributes.items())))
+
+
+def in_all_ways(function, values):
+    """Calls of the function by place, by name, with lists for tuples, and both."""
+    names = list(inspect.signature(function).parameters)
+    lists = as_lists(list(values))
+    return [
+        lambda: function(*values),
+        lambda: function(**dict(zip(names, values))),
+        lambda: function(*lists),
+        lambda: function(**dict(zip(names, lists))),
+    ]
+
+
+def walks(case, make, values, seen, steps):
+    """Make an object in all ways, and with each do the steps, each call in the way it was made.
+
+    A step is a name of a method, its values, and what it tells or raises; what is seen of the
+    object is not changed by a step that raises. The objects are told.
+    """
+    objects = [call() for call in in_all_ways(make, values)]
+    for name, given, expected in steps:
+        for way, one in enumerate(objects):
+            before = seen(one)
+            found = outcome(in_all_ways(getattr(one, name), given)[way])
+            case.assertTrue(alike(expected, found), (name, given, expected, found))
+            if found[0] == "raised":
+                case.assertTrue(alike(before, seen(one)), (name, given))
+    for one in objects:
+        case.assertTrue(alike(seen(objects[0]), seen(one)))
+        case.assertTrue(one == objects[0] and not one != objects[0])
+    return objects
+
+
 def examples_in(text):
     """The pairs (statement, what is stated behind it, maybe "") of examples."""
     pairs = []

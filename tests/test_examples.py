@@ -9,8 +9,8 @@ from tests.helper import examples_in, run_examples
 FOLDER = pathlib.Path(__file__).parent / "examples"
 PACKAGE = pathlib.Path(__file__).parent.parent / "lentblocks"
 CHAPTERS = [
-    "bound", "chains", "first", "moving", "opponents", "reach", "rounding", "rows", "rules",
-    "stands",
+    "bound", "chains", "first", "hidden", "moving", "opponents", "pools", "reach", "rounding",
+    "rows", "rules", "stands", "surely", "waste",
 ]
 
 

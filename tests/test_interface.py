@@ -48,6 +48,26 @@ FUNCTIONS = {
         tight_chains(length, greatest), beats(one, other, length), best_chains(length, greatest),
         beaten_by(chain, length, greatest), is_beaten_by(chain, length, greatest, thing),
         best_within(length, greatest, limit), enough_pool(chain, length, total)""",
+    "surely": """short_sizes(chain, pool, stand, sizes), are_sure(chain, pool, stand, sizes),
+        refused_order(chain, pool, stand, sizes),
+        is_refused_order(chain, pool, stand, sizes, thing),
+        more_sure(chain, pool, stand, sizes, size), sure_cells(chain, pool, stand)""",
+    "waste": """free_slots(pool, stand, size), touched_cells(stand, size), touched_by(chain, stand),
+        slot_sums(pool, stand, size), stuck_sizes(chain, pool, stand),
+        least_back(pool, stand, size), back_blocks(pool, stand, size),
+        is_back(pool, stand, size, thing)""",
+    "pools": """pool_for(sizes, budget), is_parting(chain, thing), all_partings(chain),
+        how_many_partings(many), total_for(chain, parts, budget),
+        fewest_pools(chain, budget, most), best_parting(chain, budget, most),
+        is_best_parting(chain, budget, most, thing)""",
+    "hidden": "surveyed(chain, most, asker)",
+}
+
+# For each file its class, the parameters, the properties and the methods as they are written.
+CLASSES = {
+    "hidden": ("Survey", "(chain, most)", "chain, most, told, out", """ask(size, answer),
+        give(first), back(), twin(), known_free(), may_be_free(), sure(size), next_ask(),
+        __len__(), __eq__(other)"""),
 }
 
 # For each error class, the values that it takes and keeps.
@@ -70,7 +90,7 @@ def listed(text):
     pairs = []
     for part in " ".join(text.split()).split("), "):
         name, inner = part.rstrip(")").split("(")
-        pairs.append((name, inner.split(", ")))
+        pairs.append((name, inner.split(", ") if inner else []))
     return pairs
 
 
@@ -89,6 +109,43 @@ class Functions(unittest.TestCase):
                     for one in told:
                         self.assertEqual(one.kind, one.POSITIONAL_OR_KEYWORD)
                         self.assertEqual(one.default, one.empty)
+
+
+class Classes(unittest.TestCase):
+    def test_each_class(self):
+        for file, (name, parameters, properties, methods) in CLASSES.items():
+            with self.subTest(file=file, name=name):
+                one = getattr(importlib.import_module("lentblocks." + file), name)
+                self.assertTrue(inspect.isclass(one))
+                self.assertEqual((one.__module__, one.__name__), ("lentblocks." + file, name))
+                self.assertEqual(str(inspect.signature(one)), parameters)
+                for word in properties.split(", ") if properties else ():
+                    self.assertIsInstance(vars(one)[word], property)
+                    self.assertIsNone(vars(one)[word].fset)
+                    self.assertIsNone(vars(one)[word].fdel)
+
+    def test_each_method_is_defined_in_the_class_itself(self):
+        for file, (name, _, _, methods) in CLASSES.items():
+            own = vars(getattr(importlib.import_module("lentblocks." + file), name))
+            for word, parameters in listed(methods):
+                with self.subTest(name=name, word=word):
+                    self.assertTrue(inspect.isfunction(own[word]))
+                    told = list(inspect.signature(own[word]).parameters.values())
+                    self.assertEqual(told[0].name, "self")
+                    if not word.startswith("__"):
+                        self.assertEqual([one.name for one in told[1:]], parameters)
+                    self.assertEqual(len(told) - 1, len(parameters))
+                    for one in told:
+                        self.assertEqual(one.kind, one.POSITIONAL_OR_KEYWORD)
+                        self.assertEqual(one.default, one.empty)
+
+    def test_nothing_else_is_public(self):
+        for file, (name, _, properties, methods) in CLASSES.items():
+            own = vars(getattr(importlib.import_module("lentblocks." + file), name))
+            told = properties.split(", ") if properties else []
+            told += [word for word, _ in listed(methods) if not word.startswith("_")]
+            self.assertEqual(
+                sorted(word for word in own if not word.startswith("_")), sorted(told))
 
 
 class Errors(unittest.TestCase):

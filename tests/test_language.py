@@ -27,14 +27,18 @@ METHODS = set(
     """append clear copy count endswith extend find get index insert isalnum isalpha isdigit
     islower isspace isupper items join keys ljust lower lstrip partition pop remove replace
     reverse rfind rjust rpartition rsplit rstrip setdefault split splitlines startswith strip
-    update upper values zfill bit_length isascii isdecimal encode decode add discard sort
+    update upper values zfill bit_length isascii isdecimal encode decode add discard
     __init__""".split()
 )
-BARRED = set(
-    """register mro elements open input law version_info with_traceback add_note type typing
-    typing_extensions enum Enum IntEnum StrEnum Flag IntFlag Generic Protocol ABC ABCMeta
-    namedtuple NamedTuple TypedDict TYPE_CHECKING abstractmethod dataclass overload
-    contextmanager global async""".split()
+BARRED_WORDS = set(
+    """type typing typing_extensions enum Enum IntEnum StrEnum Flag IntFlag Generic Protocol ABC
+    ABCMeta namedtuple NamedTuple TypedDict TYPE_CHECKING abstractmethod""".split()
+)
+# As names, not as strings: a request is called open.
+BARRED = BARRED_WORDS | set(
+    """register mro elements open input law version_info with_traceback add_note global async
+    attrgetter breakpoint builtins compile copyright credits delattr dir eval exec exit gc globals
+    help id importlib license locals methodcaller os quit vars sys""".split()
 )
 DUNDERS = set(
     """__init__ __eq__ __repr__ __str__ __len__ __enter__ __exit__ __call__ __iter__ __lt__
@@ -105,9 +109,12 @@ class Files(unittest.TestCase):
                 if token.type == tokenize.NAME:
                     self.assertNotIn(token.string, BARRED, path)
                 if token.type == tokenize.STRING and token.start[0] not in docstrings:
-                    self.assertFalse(BARRED & set(re.findall(r"\w+", token.string)), path)
+                    self.assertFalse(BARRED_WORDS & set(re.findall(r"\w+", token.string)), path)
                 if token.type == tokenize.STRING:
                     self.assertNotIn("%", token.string, path)
+            # Anywhere, as a class of the package has a __getitem__.
+            for word in ("(type)", "Meta", "metaclass=", "dataclass", "overload", "contextmanager"):
+                self.assertNotIn(word, path.read_text(), path)
 
 
 class Statements(unittest.TestCase):
@@ -237,6 +244,74 @@ class Statements(unittest.TestCase):
                     self.assertFalse(hasattr(builtins, name), (file, name))
                 if isinstance(node, (ast.FunctionDef, ast.ClassDef)) and node in tree.body:
                     self.assertFalse(hasattr(builtins, node.name), (file, node.name))
+
+
+class Classes(unittest.TestCase):
+    def test_attributes_and_methods_have_names_of_their_own(self):
+        methods = {
+            one.name for _, node in nodes(ast.ClassDef) for one in node.body
+            if isinstance(one, ast.FunctionDef)
+        }
+        assigned = {
+            node.attr for _, node in nodes(ast.Attribute) if isinstance(node.ctx, ast.Store)
+        }
+        self.assertEqual(methods & assigned, set())
+        for name in methods | assigned:
+            if not name.startswith("__"):
+                for kind in (str, int, list, tuple, dict, set, bytes):
+                    self.assertFalse(hasattr(kind, name), name)
+        # What is read of an object is a method, an attribute that is assigned, or a builtin one.
+        for file, node in nodes(ast.Attribute):
+            self.assertIn(node.attr, methods | assigned | METHODS, (file, node.lineno))
+
+    def test_bases(self):
+        for file, node in nodes(ast.ClassDef):
+            self.assertEqual(node.decorator_list + node.keywords, [])
+            self.assertEqual(len(node.bases), 1 if file == "errors" else 0, node.name)
+            for one in node.body:
+                self.assertTrue(
+                    isinstance(one, ast.FunctionDef) or ast.get_docstring(node) and one is node.body[0])
+
+    def test_an_iter_raises_only(self):
+        for file, node in nodes(ast.ClassDef):
+            own = {one.name: one for one in node.body if isinstance(one, ast.FunctionDef)}
+            self.assertEqual("__getitem__" in own, "__iter__" in own, node.name)
+            if "__iter__" in own:
+                self.assertRegex(
+                    ast.unparse(own["__iter__"].body), r"^raise TypeError\('[a-z ]+'\)$")
+
+    def test_what_is_asked_changes_nothing(self):
+        for file, node in nodes(ast.ClassDef):
+            for one in node.body:
+                if not isinstance(one, ast.FunctionDef):
+                    continue
+                asking = one.decorator_list or one.name.startswith("__")
+                if asking and one.name != "__init__":
+                    for inner in ast.walk(one):
+                        self.assertNotIsInstance(inner, (ast.Assign, ast.AugAssign, ast.Delete))
+                        if isinstance(inner, ast.Expr):
+                            self.assertIsInstance(inner.value, ast.Constant)
+
+
+class Doing(unittest.TestCase):
+    def test_a_statement_by_itself_is_a_call(self):
+        for file, node in nodes(ast.Expr):
+            self.assertTrue(
+                isinstance(node.value, ast.Call) or isinstance(node.value, ast.Constant)
+                and isinstance(node.value.value, str), (file, node.lineno))
+
+    def test_only_own_errors_are_caught(self):
+        own = defined_in("errors")
+        for file, node in nodes(ast.ExceptHandler):
+            self.assertIn(ast.unparse(node.type), own, (file, node.lineno))
+            self.assertIsNone(node.name)
+
+    def test_what_is_raised_is_made_there(self):
+        own = defined_in("errors") | {"TypeError"}
+        for file, node in nodes(ast.Raise):
+            self.assertIsInstance(node.exc, ast.Call, (file, node.lineno))
+            self.assertIn(ast.unparse(node.exc.func), own)
+            self.assertIsNone(node.cause)
 
 
 if __name__ == "__main__":
