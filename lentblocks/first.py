@@ -2,13 +2,19 @@
 
 from lentblocks.errors import NoPlace
 from lentblocks.rows import asks_of, played
-from lentblocks.stands import free_runs
+from lentblocks.stands import free_runs, put
 
 
 def first_place(pool, stand, size):
     """The least place for the size; None if there is none."""
     runs = free_runs(pool, stand, size)
     return runs[0][0] * size if len(runs) > 0 else None
+
+
+def lent(pool, stand, size):
+    """The place that an ask gets, None if there is none, and the STAND behind it."""
+    first = first_place(pool, stand, size)
+    return (first, stand) if first is None else (first, put(pool, stand, first, size))
 
 
 def _play(pool, row):

@@ -9,8 +9,8 @@ from tests.helper import examples_in, run_examples
 FOLDER = pathlib.Path(__file__).parent / "examples"
 PACKAGE = pathlib.Path(__file__).parent.parent / "lentblocks"
 CHAPTERS = [
-    "bound", "chains", "first", "hidden", "moving", "opponents", "pools", "reach", "rounding",
-    "rows", "rules", "stands", "surely", "waste",
+    "board", "bound", "chains", "changes", "desk", "first", "hidden", "moving", "opponents",
+    "pools", "reach", "rounding", "rows", "rules", "stands", "surely", "texts", "waste",
 ]
 
 

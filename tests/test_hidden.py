@@ -254,6 +254,7 @@ class Objects(Case):
         other.ask(1, 7)
         other.give(7)
         self.assertFalse(one == other)
+        self.assertFalse(other == one)
         for values in ((CHAIN, 12), (CHAIN, 4), ((1, 4), 8), ((1,), 8), ((1, 2, 4, 8), 8)):
             self.assertFalse(Survey(CHAIN, 8) == Survey(*values))
             self.assertTrue(Survey(*values) != Survey(CHAIN, 8))

@@ -2,9 +2,13 @@
 
 import importlib
 import inspect
+import pathlib
+import re
 import unittest
 
 from lentblocks import errors
+
+DOCUMENT = pathlib.Path(__file__).parent.parent.parent / "shared" / "DOC.md"
 
 # For each file, its functions as the interface writes them.
 FUNCTIONS = {
@@ -61,6 +65,9 @@ FUNCTIONS = {
         fewest_pools(chain, budget, most), best_parting(chain, budget, most),
         is_best_parting(chain, budget, most, thing)""",
     "hidden": "surveyed(chain, most, asker)",
+    "texts": """numbers_text(numbers), stand_text(stand), row_text(row), fraction_text(part),
+        numbers_from(text), stand_from(text), row_from(text), fraction_from(text)""",
+    "desk": "answers(text)",
 }
 
 # For each file its class, the parameters, the properties and the methods as they are written.
@@ -68,6 +75,13 @@ CLASSES = {
     "hidden": ("Survey", "(chain, most)", "chain, most, told, out", """ask(size, answer),
         give(first), back(), twin(), known_free(), may_be_free(), sure(size), next_ask(),
         __len__(), __eq__(other)"""),
+    "changes": ("Watch", "(chain, pool, stand=())", "chain, pool, stand, told", """live(),
+        height(), reach(), refused(), ask(size), give(first), back(), twin(), __len__(),
+        __eq__(other)"""),
+    "board": ("Board", "()", "names, deeds", """put(name, chain, pool), drop(name),
+        rename(name, new), ask(name, size), give(name, first), undo(), twin(), live(name),
+        place(name, size), open_for(size), __len__(), __contains__(name), __getitem__(name),
+        __eq__(other)"""),
 }
 
 # For each error class, the values that it takes and keeps.
@@ -146,6 +160,22 @@ class Classes(unittest.TestCase):
             told += [word for word, _ in listed(methods) if not word.startswith("_")]
             self.assertEqual(
                 sorted(word for word in own if not word.startswith("_")), sorted(told))
+
+
+class Document(unittest.TestCase):
+    def test_no_name_of_the_interface_is_left_out(self):
+        if not DOCUMENT.exists():
+            self.skipTest("the document is not beside the project")
+        told = {}
+        for part in DOCUMENT.read_text().split("\n## lentblocks/")[1:]:
+            file, rest = part.split(".py\n")
+            told[file] = set(re.findall(r"(\w+)\(", rest)) - {"len"}
+        here = {file: {name for name, _ in listed(text)} for file, text in FUNCTIONS.items()}
+        for file, (name, _, _, methods) in CLASSES.items():
+            names = {word for word, _ in listed(methods) if not word.startswith("_")}
+            here[file] = here.get(file, set()) | names | {name}
+        here["errors"] = set(ERRORS)
+        self.assertEqual(told, here)
 
 
 class Errors(unittest.TestCase):
